@@ -1,0 +1,1 @@
+"""Roomslaid: records laid into the cells of a room."""
