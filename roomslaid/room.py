@@ -82,9 +82,9 @@ class Room:
         """Leaves the number's rest by 2 ** bits at the place; all other bits stay."""
         numbers = self.numbers_within(place)
         cell, shift, bits = place
-        change = number % (1 << bits) - self.taken(place)
-        changed = self.kept_in(numbers) + (change << shift)
-        self.held[cell:cell + len(numbers)] = cells_of(changed, len(numbers))
+        kept = self.kept_in(numbers)
+        change = number % (1 << bits) - (kept >> shift) % (1 << bits)
+        self.held[cell:cell + len(numbers)] = cells_of(kept + (change << shift), len(numbers))
 
     def cells(self):
         """All cells of the room, a new list each time."""

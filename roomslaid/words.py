@@ -68,3 +68,22 @@ def word_of(cells):
     for cell in reversed(cells):
         word = word * 256 + cell
     return word
+
+
+def is_alike(thing, wanted):
+    """Whether the thing equals the wanted one, and is of the same kinds, within it too."""
+    if isinstance(wanted, list):
+        return isinstance(thing, list) and are_alike(thing, wanted)
+    if isinstance(wanted, tuple):
+        return isinstance(thing, tuple) and are_alike(thing, wanted)
+    # A truth equals a number, but is none.
+    if isinstance(thing, bool) != isinstance(wanted, bool):
+        return False
+    return thing == wanted
+
+
+def are_alike(things, wanted):
+    """Whether there are as many things as wanted, each alike."""
+    if len(things) != len(wanted):
+        return False
+    return all([is_alike(thing, other) for thing, other in zip(things, wanted)])

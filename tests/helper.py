@@ -136,3 +136,119 @@ def with_thing(record, steps, thing):
     changed = copy.copy(record) if not isinstance(record, tuple) else list(record)
     changed[steps[0]] = with_thing(changed[steps[0]], steps[1:], thing)
     return tuple(changed) if isinstance(record, tuple) else changed
+
+
+def laid_at(units, text):
+    """The place of each unit of each thing that a laying's text lays, by its sums, things rising, units in their order."""
+    head, *lines = text.split("\n")
+    wide = {path: width for path, width, sort in units}
+    things = range(int(head.split(" ")[3]))
+    found = {}
+    for line in lines:
+        words, laid = line.split(" : ")[0].split(" "), line.split(" : ")[1].split(" ")
+        base = int(words[1])
+        for unit in laid:
+            at = laid.index(unit)
+            for thing in things:
+                if words[0] == "tags":
+                    pair = thing * len(laid) + at
+                    found[unit, thing] = (base + pair // 4, pair % 4 * 2, 2)
+                else:
+                    block, ahead = int(words[2]), sum(wide[other] for other in laid[:at])
+                    cell = base + thing // block * block_length(line, wide) + block * ahead + thing % block * wide[unit]
+                    found[unit, thing] = (cell, 0, 8 * wide[unit])
+    return {(unit, thing): found[unit, thing] for thing in things for unit in wide if (unit, thing) in found}
+
+
+def block_length(line, wide):
+    """How many cells a block of this part's line has."""
+    words, laid = line.split(" : ")[0].split(" "), line.split(" : ")[1].split(" ")
+    length = int(words[2]) * sum(wide[unit] for unit in laid)
+    while length % int(words[3]):
+        length += 1
+    return length
+
+
+def bits_of(place):
+    """The numbers of the room's bits that the place has."""
+    cell, shift, bits = place
+    return set(range(8 * cell + shift, 8 * cell + shift + bits))
+
+
+def some_laying(shape, dice, things):
+    """The text of a laying for so many things that is let by, with parts, blocks, pads and gaps that are drawn."""
+    wide = {path: width for path, width, sort in shape.units()}
+    tags = [path for path, width, sort in shape.units() if sort == "tag" and dice.random() < 0.5]
+    groups = [("tags", tags)] if tags else []
+    left = [path for path in wide if path not in tags]
+    dice.shuffle(left)
+    while left:
+        many = dice.randint(1, len(left))
+        groups.append(("part", left[:many]))
+        left = left[many:]
+    dice.shuffle(groups)
+    lines, base = [], 0
+    for word, laid in groups:
+        base += dice.choice([0, 0, 1, 3])
+        line = "tags %d : %s" % (base, " ".join(laid))
+        if word == "part":
+            block, pad = dice.choice([1, 1, 2, 3, things, 17]), dice.choice([1, 1, 2, 8, 64])
+            line = "part %d %d %d : %s" % (base, block, pad, " ".join(laid))
+        lines.append(line)
+        whole = "\n".join(["room 1 things %d" % things] + lines)
+        base = 1 + max(max(bits_of(place)) // 8 for place in laid_at(shape.units(), whole).values())
+    return "\n".join(["room %d things %d" % (base + dice.choice([0, 1, 5]), things)] + lines)
+
+
+def some_program(shape, dice):
+    """The text of a program for things of this shape, with rows, loops and choices that are drawn."""
+    paths = {"num": [], "pick": []}
+    gather_paths(shape.kind_of(""), "", paths)
+    lines, begun = ["one = 1"], []
+    while len(lines) + len(begun) < 58 and (begun or dice.random() < 0.96):
+        word = dice.choice(["row"] * 12 + ["begin"] * 2 + ["end"] * 4 + ["else"])
+        if word == "row":
+            lines.append(some_row(paths, dice))
+        elif word == "begin" and len(begun) < 3:
+            lines.append(dice.choice(["each i", "each j", "span i zero a", "span j zero two", "span k a i", "if a", "if b"]))
+            begun.append(lines[-1].split(" ")[0])
+        elif word == "else" and begun and begun[-1] == "if":
+            begun[-1] = "else"
+            lines.append("else")
+        elif word == "end" and begun:
+            begun.pop()
+            lines.append("end")
+    return "\n".join(lines + ["end"] * len(begun))
+
+
+def some_row(paths, dice):
+    """A line of a program that is no loop and no choice."""
+    one, other, third = [dice.choice(["a", "b", "i", "j", "one", "two"]) for number in range(3)]
+    goal = dice.choice(["a", "b", "k", "two"])
+    thing = dice.choice(["i", "j", "i", "j", "zero", "zero", "one", "k"])
+    lines = ["%s = %d" % (goal, dice.choice([0, 1, 2, 3, 255, 65536, 4294967295])), "%s = %s" % (goal, one),
+             "%s = %s %s %s" % (goal, one, dice.choice("+-*<=&"), other), "%s = put" % goal, "take " + thing,
+             "copy %s %s" % (thing, dice.choice(["i", "zero"])), "%s = many" % goal, "out " + one, "out " + goal]
+    if paths["num"]:
+        lines += ["%s = look %s %s" % (goal, thing, dice.choice(paths["num"])) for number in range(4)]
+        lines += ["store %s %s %s" % (thing, dice.choice(paths["num"]), one) for number in range(3)]
+    if paths["pick"]:
+        lines += ["%s = which %s %s" % (goal, thing, dice.choice(paths["pick"])) for number in range(2)]
+        lines += ["choose %s %s %s" % (thing, dice.choice(paths["pick"]), dice.choice(["zero", "one", "a"])) for number in range(2)]
+    return dice.choice(lines)
+
+
+def gather_paths(kind, path, paths):
+    """Gathers the paths of a program to all nums and picks under this one, elements by figures and by a name."""
+    dot = path and path + "."
+    if kind.word() in paths:
+        paths[kind.word()].append(path)
+    if kind.word() == "shape":
+        for name, inner in kind.shape.fields:
+            gather_paths(inner, dot + name, paths)
+    if kind.word() == "row":
+        for step in ["0", str(kind.count - 1), "k", "zero"]:
+            gather_paths(kind.kind, dot + step, paths)
+    if kind.word() == "pick":
+        for shape in kind.shapes:
+            gather_paths(shape.kind_of(""), dot + shape.name, paths)

@@ -62,6 +62,23 @@ def given_names(function):
     return names + [part.id for part in ast.walk(function) if isinstance(part, ast.Name) and isinstance(part.ctx, ast.Store)]
 
 
+def is_walk(function):
+    """Whether what is called makes something that is walked once, on the spot."""
+    if isinstance(function, ast.Attribute):
+        return function.attr in ("items", "keys", "values")
+    return getattr(function, "id", "") in ("zip", "enumerate", "reversed", "range")
+
+
+def is_walked_by(holder, walk):
+    """Whether the node around such a call walks it on the spot."""
+    if isinstance(holder, (ast.For, ast.comprehension)):
+        return holder.iter is walk
+    if isinstance(holder, ast.Call) and isinstance(holder.func, ast.Name):
+        walkers = ("list", "tuple", "dict", "sorted", "sum", "any", "all", "enumerate", "zip", "min", "max")
+        return holder.func.id in walkers and holder.args[0] is walk
+    return False
+
+
 class Files(unittest.TestCase):
 
     def test_nothing_else_lies_in_the_package(self):
@@ -152,6 +169,14 @@ class Forms(unittest.TestCase):
             for sign, side in zip(node.ops, node.comparators):
                 if isinstance(sign, (ast.Is, ast.IsNot)):
                     self.assertIn(getattr(side, "value", ""), (None, True, False), where(file, node))
+
+    def test_walks_are_walked_on_the_spot(self):
+        for file in FILES:
+            tree = tree_of(file)
+            above = {part: node for node in ast.walk(tree) for part in ast.iter_child_nodes(node)}
+            for node in ast.walk(tree):
+                if isinstance(node, ast.Call) and is_walk(node.func):
+                    self.assertTrue(is_walked_by(above[node], node), where(file, node))
 
     def test_errors_are_made_on_the_spot(self):
         made = top_names(FOLDER / "errors.py")

@@ -2,8 +2,8 @@
 
 import unittest
 
-from roomslaid.words import bound_of, cells_of, is_name, is_whole, is_word, number_in, own_words, word_of
-from tests.helper import ODD
+from roomslaid.words import bound_of, cells_of, is_alike, is_name, is_whole, is_word, number_in, own_words, word_of
+from tests.helper import ODD, plain
 
 OWN = ("shape num row pick tag room things part tags put take many look which store choose copy each span "
        "if else end out").split(" ")
@@ -196,6 +196,26 @@ class WordsOfAWidth(unittest.TestCase):
     def test_other_things(self):
         for thing in (True, False, None, "1", [1], (1,), {1: 1}):
             self.assertIs(is_word(thing, 1), False)
+
+
+class Alike(unittest.TestCase):
+
+    def test_things_that_are_of_the_same_kinds(self):
+        for thing in (0, 1, -1, "", "a", None, True, False, [], (), [0], (0,), [(1, "a"), None, [True]], ([], ((),))):
+            for wanted in (0, 1, -1, "", "a", None, True, False, [], (), [0], (0,), [(1, "a"), None, [True]], ([], ((),))):
+                self.assertIs(is_alike(thing, wanted), plain(thing) == plain(wanted), (thing, wanted))
+
+    def test_odd_things(self):
+        for thing in ODD:
+            self.assertIs(is_alike(thing, [("a", 1)]), False)
+
+    def test_one_kind_for_another(self):
+        wanted = [("a", 1, 0, None, [True, False])]
+        self.assertIs(is_alike([("a", 1, 0, None, [True, False])], wanted), True)
+        for thing in ([["a", 1, 0, None, [True, False]]], [("a", True, 0, None, [True, False])], [("a", 1, False, None, [True, False])],
+                      [("a", 1, 0, None, (True, False))], [("a", 1, 0, None, [1, False])], [("a", 1, 0, None, [True, 0])],
+                      [("a", 1, 0, None, [True])], [("a", 1, 0, None)], [("a", 1, 0, None, [True, False])] * 2, (wanted[0],), []):
+            self.assertIs(is_alike(thing, wanted), False)
 
 
 if __name__ == "__main__":
