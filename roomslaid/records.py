@@ -124,10 +124,15 @@ def found_at(shape, record, steps, word):
     """The kind to which the steps lead, which has to be of this word, and what the record has there."""
     if not is_record(shape, record):
         raise NoRecord(record)
+    return asked_kind(shape, steps, word), reached(shape, record, steps)
+
+
+def asked_kind(shape, steps, word):
+    """The kind to which the steps lead by the shape alone, which has to be of this word."""
     kind = kind_at(shape, steps)
     if kind.word() != word:
         raise NoPath(steps)
-    return kind, reached(shape, record, steps)
+    return kind
 
 
 def reached(shape, record, steps):
@@ -144,12 +149,22 @@ def stepped(kind, value, step):
     """What lies one step behind this value of the kind."""
     if isinstance(kind, Pick):
         number, record = value
-        if kind.shapes[number].name != step:
-            raise Other(step)
+        need_chosen(kind, number, step)
         return record
+    need_element(kind, step)
+    return value[step]
+
+
+def need_chosen(pick, number, step):
+    """Refuses a step to a shape of the pick that is not the one of the number chosen there."""
+    if pick.shapes[number].name != step:
+        raise Other(step)
+
+
+def need_element(kind, step):
+    """Refuses a step to an element that the row has not; no other kind has elements."""
     if isinstance(kind, Many) and step >= kind.count:
         raise Beyond(step)
-    return value[step]
 
 
 def replaced(shape, record, steps, value):

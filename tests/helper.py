@@ -4,14 +4,21 @@ import copy
 import random
 
 from roomslaid.errors import NoRoom, RoomError
+from roomslaid.layingtext import read_laying
+from roomslaid.program import read_program
 from roomslaid.room import Room
 from roomslaid.shapes import Nested, Num, Shape, Shapes
+from roomslaid.shapetext import read_shapes
+from roomslaid.stores import Plain
+
+TINY = read_shapes("shape a\nx num 1")
 
 ODD = [
     None, True, False, 0, 1, 2, 255, 256, -1, 10 ** 29, -(10 ** 29), "", "a", "0", "1", "00", "shape", "tag", ".",
     "a b", "a\n", [], [0], ["a"], [[]], (), (0,), (0, 0), (0, 0, 8), (0, 0, 8, 0), ("a",), (None,), {}, {"a": 0},
     {0: 1}, {None: []}, [[[[[[[[[[[[]]]]]]]]]]]], Room(1), Num(1), NoRoom(0), Shape("a", [("x", Num(1))]),
     Nested(Shape("a", [("x", Num(1))])), Shapes([Shape("a", [("x", Num(1))])]),
+    read_laying(TINY, "room 1 things 1\npart 0 1 1 : x"), read_program(TINY, "out a"), Plain(TINY, 1, [{"x": 0}]),
 ]
 
 DRAWING = "\n".join([
@@ -252,3 +259,43 @@ def gather_paths(kind, path, paths):
     if kind.word() == "pick":
         for shape in kind.shapes:
             gather_paths(shape.kind_of(""), dot + shape.name, paths)
+
+
+def some_steps(kind, dice):
+    """Steps from this kind on, as a tuple: mostly such as lead somewhere, some to an element that the row has not."""
+    if kind.word() == "num" or dice.random() < 0.04:
+        return ()
+    if kind.word() == "pick" and dice.random() < 0.5:
+        return ()
+    if dice.random() < 0.02:
+        return (dice.choice(["tag", "", 0, -1, True, None, "zz", (), 10 ** 29]),)
+    if kind.word() == "shape":
+        name, inner = dice.choice(kind.shape.fields)
+        return (name,) + some_steps(inner, dice)
+    if kind.word() == "row":
+        number = dice.choice([0, kind.count - 1, dice.randrange(kind.count), dice.randrange(kind.count + 1)])
+        return (number,) + some_steps(kind.kind, dice)
+    shape = dice.choice(kind.shapes)
+    return (shape.name,) + some_steps(shape.kind_of(""), dice)
+
+
+def some_deed(shape, dice, many):
+    """A deed of a store that has so many things, as a tuple of its name and what is handed in, good or wrong."""
+    def thing():
+        return dice.choice([0, many - 1] + [dice.randrange(many or 1) for number in range(8)] + [many, -1, True, None, "0"])
+    steps = some_steps(shape.kind_of(""), dice)
+    word = dice.choice([0, 1, -1, 255, 256, 65537, 2 ** 32 - 1, 2 ** 32, -(10 ** 29), dice.randrange(2 ** 32)])
+    return dice.choice([
+        ("look", thing(), steps), ("store", thing(), steps, word), ("store", thing(), steps, word), ("which", thing(), steps),
+        ("choose", thing(), steps, dice.choice([0, 1, 1, 2, 3, 4, -1, True])),
+        ("choose", thing(), steps, dice.choice([0, 1])), ("copy", thing(), thing()), ("put",), ("put",), ("take", thing()),
+    ])
+
+
+def outcome(store, deed):
+    """What the store tells of the deed, or the class and fields of its refusal, as a text."""
+    name, *handed = deed
+    try:
+        return plain(getattr(store, name)(*handed))
+    except RoomError as error:
+        return plain((error.__class__.__name__, vars(error)))
