@@ -54,11 +54,11 @@ class Cells(Store):
 
     def blank_put(self):
         number = self.there
-        self.there += 1
         touched = [self.laying.place(unit, number) for unit in self.unit_paths()]
         for place in touched:
             self.room.left(place, 0)
         self.places.append(touched)
+        self.there += 1
         return number
 
     def last_taken(self, thing):
