@@ -78,6 +78,12 @@ class OwnWords(unittest.TestCase):
 
 class Figures(unittest.TestCase):
 
+    def test_each_sign(self):
+        for sign in [chr(number) for number in range(32, 127)] + ["\n"]:
+            for text in (sign, "1" + sign, sign + "1"):
+                is_number = sign in "0123456789" and text != "01"
+                self.assertEqual(number_in(text, 0, 99), int(text) if is_number else None, repr(text))
+
     def test_a_number(self):
         for text, number in (("0", 0), ("7", 7), ("10", 10), ("1234567890", 1234567890), ("9999999999", 9999999999)):
             self.assertEqual(number_in(text, 0, 10 ** 12), number)
