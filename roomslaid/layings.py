@@ -2,7 +2,7 @@
 
 from roomslaid.errors import NoPath, NoThings, UnknownUnit
 from roomslaid.room import CELL_BITS, TAG_BITS
-from roomslaid.words import is_whole
+from roomslaid.words import is_between
 
 TAGS_IN_CELL = 4
 
@@ -94,7 +94,7 @@ class Laying:
 
     def is_thing(self, thing):
         """Whether the thing is the number of one for which there is room."""
-        return is_whole(thing) and 0 <= thing < self.things
+        return is_between(thing, 0, self.things - 1)
 
 
 def unit_places_of(parts, things):

@@ -2,14 +2,14 @@
 
 from roomslaid.errors import NoLine
 from roomslaid.room import cells_in
-from roomslaid.words import is_whole
+from roomslaid.words import is_between
 
 MOST_LINE_CELLS = 64
 
 
 def lines_of(places, wide):
     """The numbers of the lines of so many cells that the places touch, place by place."""
-    if not is_whole(wide) or not 1 <= wide <= MOST_LINE_CELLS:
+    if not is_between(wide, 1, MOST_LINE_CELLS):
         raise NoLine(wide)
     lines = []
     for place in places:

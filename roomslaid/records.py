@@ -2,7 +2,7 @@
 
 from roomslaid.errors import Beyond, NoPath, NoRecord, Other
 from roomslaid.shapes import Many, Nested, Num, Pick
-from roomslaid.words import bound_of, is_whole, is_word
+from roomslaid.words import bound_of, is_between, is_word
 
 
 def is_record(shape, thing):
@@ -47,7 +47,7 @@ def is_choice(kind, thing):
 
 def is_number_of(pick, thing):
     """Whether the thing is the number of one of the pick's shapes."""
-    return is_whole(thing) and 0 <= thing < len(pick.shapes)
+    return is_between(thing, 0, len(pick.shapes) - 1)
 
 
 def blank(shape):

@@ -1,7 +1,7 @@
 """Places, and a room of cells in which words and packed tags lie at them."""
 
 from roomslaid.errors import NoPlace, NoRoom
-from roomslaid.words import cells_of, is_whole, word_of
+from roomslaid.words import cells_of, is_between, is_whole, word_of
 
 CELL_BITS = 8
 MOST_PLACE_CELLS = 64
@@ -67,7 +67,7 @@ class Room:
     """So many cells, all of them 0 at first."""
 
     def __init__(self, wide):
-        if not is_whole(wide) or not 1 <= wide <= MOST_ROOM_CELLS:
+        if not is_between(wide, 1, MOST_ROOM_CELLS):
             raise NoRoom(wide)
         self.wide = wide
         self.held = [0] * wide

@@ -2,7 +2,7 @@
 
 from roomslaid.errors import Beyond, NoBudget, NoInput, Other, TooMuch
 from roomslaid.program import SIGNS, WORD_CELLS, Choice, Loop
-from roomslaid.words import bound_of, is_whole, is_word
+from roomslaid.words import bound_of, is_between, is_word
 
 MOST_BUDGET = 5000
 
@@ -112,7 +112,7 @@ def run(program, store, inputs, budget):
     """Runs the program on the store."""
     names = program.names()
     need_inputs(names, inputs)
-    if not is_whole(budget) or not 0 <= budget <= MOST_BUDGET:
+    if not is_between(budget, 0, MOST_BUDGET):
         raise NoBudget(budget)
     going = Going(store, {name: inputs.get(name, 0) for name in names}, budget)
     going.do_rows(program.rows)

@@ -1,7 +1,7 @@
 """Kinds of fields, shapes made of them, and the shapes of a text."""
 
 from roomslaid.errors import NoPath
-from roomslaid.words import is_whole, number_in
+from roomslaid.words import is_count, number_in
 
 
 def joined(path, step):
@@ -126,7 +126,7 @@ class Many(Kind):
 
     def led(self, step):
         # Which numbers the row has is not asked here: by the shape alone each number leads on.
-        return self.kind if is_whole(step) and step >= 0 else None
+        return self.kind if is_count(step) else None
 
 
 class Pick(Kind):

@@ -2,7 +2,7 @@
 
 from roomslaid.errors import Beyond, NoThings, TooMuch
 from roomslaid.records import blank, chosen, copied, is_record, look_at, stored, which_at
-from roomslaid.words import is_whole
+from roomslaid.words import is_between
 
 
 class Store:
@@ -73,7 +73,7 @@ class Store:
 
     def need_thing(self, thing):
         """Refuses what is no number of a thing that is there."""
-        if not is_whole(thing) or not 0 <= thing < self.many():
+        if not is_between(thing, 0, self.many() - 1):
             raise Beyond(thing)
 
     def keep_look(self, word, thing, steps, number):

@@ -15,6 +15,16 @@ def is_whole(thing):
     return isinstance(thing, int) and not isinstance(thing, bool)
 
 
+def is_count(thing):
+    """Whether the thing is a whole number from 0 on."""
+    return is_whole(thing) and thing >= 0
+
+
+def is_between(thing, low, high):
+    """Whether the thing is a whole number from low to high."""
+    return is_whole(thing) and low <= thing <= high
+
+
 def is_name(thing):
     """Whether the thing is a name: one to six small letters, and no own word."""
     return is_text_of(thing, SMALL_LETTERS, MOST_LETTERS) and thing not in OWN_WORDS
@@ -49,7 +59,7 @@ def bound_of(width):
 
 def is_word(thing, width):
     """Whether the thing is a word of this width."""
-    return is_whole(thing) and 0 <= thing < bound_of(width)
+    return is_between(thing, 0, bound_of(width) - 1)
 
 
 def cells_of(word, width):

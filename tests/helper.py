@@ -3,22 +3,30 @@
 import copy
 import random
 
+from roomslaid.cellstore import Cells
 from roomslaid.errors import NoRoom, RoomError
+from roomslaid.flats import flat
+from roomslaid.kept import Kept
 from roomslaid.layingtext import read_laying
 from roomslaid.program import read_program
 from roomslaid.room import Room
+from roomslaid.runs import run
 from roomslaid.shapes import Nested, Num, Shape, Shapes
 from roomslaid.shapetext import read_shapes
 from roomslaid.stores import Plain
+from roomslaid.turning import Turning
 
 TINY = read_shapes("shape a\nx num 1")
+TINY_LAYING = read_laying(TINY, "room 1 things 1\npart 0 1 1 : x")
+TINY_PROGRAM = read_program(TINY, "out a")
 
 ODD = [
     None, True, False, 0, 1, 2, 255, 256, -1, 10 ** 29, -(10 ** 29), "", "a", "0", "1", "00", "shape", "tag", ".",
     "a b", "a\n", [], [0], ["a"], [[]], (), (0,), (0, 0), (0, 0, 8), (0, 0, 8, 0), ("a",), (None,), {}, {"a": 0},
     {0: 1}, {None: []}, [[[[[[[[[[[[]]]]]]]]]]]], Room(1), Num(1), NoRoom(0), Shape("a", [("x", Num(1))]),
     Nested(Shape("a", [("x", Num(1))])), Shapes([Shape("a", [("x", Num(1))])]),
-    read_laying(TINY, "room 1 things 1\npart 0 1 1 : x"), read_program(TINY, "out a"), Plain(TINY, 1, [{"x": 0}]),
+    TINY_LAYING, TINY_PROGRAM, TINY_PROGRAM.rows[0], TINY_LAYING.parts[0], Plain(TINY, 1, [{"x": 0}]), Cells(TINY_LAYING, []),
+    Turning(TINY_LAYING, TINY_LAYING, []), run(TINY_PROGRAM, Plain(TINY, 1, []), {}, 1), Kept(1),
 ]
 
 DRAWING = "\n".join([
@@ -299,3 +307,54 @@ def outcome(store, deed):
         return plain(getattr(store, name)(*handed))
     except RoomError as error:
         return plain((error.__class__.__name__, vars(error)))
+
+
+def spots(shapes, text):
+    """The place of each word and tag of each thing, by its path: units, and what lies within picks."""
+    units = shapes.main().units()
+    found = laid_at(units, text)
+    things = {thing for unit, thing in found}
+    inner = {}
+    for path, width, unit, offset, holds in shapes.main().leaves():
+        for thing in things:
+            inner[path, thing] = (found[unit, thing][0] + offset, 0, 8 * width)
+    return {**inner, **found}
+
+
+def touched(shapes, at, record, deed, number):
+    """The places that this deed touches, by the record that the thing has ahead of it; number is what it told."""
+    units = [unit for unit, width, sort in shapes.main().units()]
+    name, *handed = deed
+    if name == "put":
+        return [at[unit, number] for unit in units]
+    thing = handed[0]
+    if name == "take":
+        return [at[unit, other] for unit in units for other in (number, thing)] if number != thing else []
+    if name == "copy":
+        return [at[unit, other] for unit in units for other in (handed[1], thing)]
+    path = ".".join(str(step) for step in handed[1])
+    tags = [there for there, tag in flat(shapes.main(), record) if there.endswith(".tag")]
+    way = [at[tag, thing] for tag in tags if path.startswith(tag[:-3])]
+    if name in ("look", "store"):
+        return way + [at[path, thing]]
+    own = [at[path + ".tag", thing]]
+    if name == "which":
+        return way + own
+    pick = shapes.main().kind_of(path)
+    within = at.get((path, thing), (own[0][0] + 1, 0, 8 * max(shape.size() for shape in pick.shapes)))
+    return way + [within] + own
+
+
+def bits_in(cells):
+    """The numbers of all bits of the cells that are 1."""
+    return {8 * cell + shift for cell, number in enumerate(cells) for shift in range(8) if number >> shift & 1}
+
+
+def wanted_bits(shapes, at, records):
+    """The numbers of the bits that are 1 by the words and tags of these records."""
+    found = set()
+    for thing, record in enumerate(records):
+        for path, number in flat(shapes.main(), record):
+            cell, shift, bits = at[path, thing]
+            found |= {8 * cell + shift + bit for bit in range(bits) if number >> bit & 1}
+    return found

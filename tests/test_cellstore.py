@@ -12,8 +12,8 @@ from roomslaid.records import blank
 from roomslaid.shapetext import read_shapes
 from roomslaid.stores import Plain, Store
 from tests.helper import (
-    DRAWING, ODD, PICKS, bits_of, is_apart, laid_at, outcome, plain, refused, refused_at, some_deed, some_laying, some_record,
-    some_text)
+    DRAWING, ODD, PICKS, bits_in, bits_of, is_apart, laid_at, outcome, plain, refused, refused_at, some_deed, some_laying,
+    some_record, some_text, spots, touched, wanted_bits)
 
 FIGURES = read_shapes(DRAWING)
 PICKED = read_shapes(PICKS)
@@ -306,57 +306,6 @@ class Contents(unittest.TestCase):
         self.assertEqual(cells.looks, [])
         self.assertEqual(cells.records(), [blank(PICKED.main()), dict(CHOICES, v=(1, {"q": 0}))])
         self.assertIsNone(cells.ahead(3))
-
-
-def spots(shapes, text):
-    """The place of each word and tag of each thing, by its path: units, and what lies within picks."""
-    units = shapes.main().units()
-    found = laid_at(units, text)
-    things = {thing for unit, thing in found}
-    inner = {}
-    for path, width, unit, offset, holds in shapes.main().leaves():
-        for thing in things:
-            inner[path, thing] = (found[unit, thing][0] + offset, 0, 8 * width)
-    return {**inner, **found}
-
-
-def touched(shapes, at, record, deed, number):
-    """The places that this deed touches, by the record that the thing has ahead of it; number is what it told."""
-    units = [unit for unit, width, sort in shapes.main().units()]
-    name, *handed = deed
-    if name == "put":
-        return [at[unit, number] for unit in units]
-    thing = handed[0]
-    if name == "take":
-        return [at[unit, other] for unit in units for other in (number, thing)] if number != thing else []
-    if name == "copy":
-        return [at[unit, other] for unit in units for other in (handed[1], thing)]
-    path = ".".join(str(step) for step in handed[1])
-    tags = [there for there, tag in flat(shapes.main(), record) if there.endswith(".tag")]
-    way = [at[tag, thing] for tag in tags if path.startswith(tag[:-3])]
-    if name in ("look", "store"):
-        return way + [at[path, thing]]
-    own = [at[path + ".tag", thing]]
-    if name == "which":
-        return way + own
-    pick = shapes.main().kind_of(path)
-    within = at.get((path, thing), (own[0][0] + 1, 0, 8 * max(shape.size() for shape in pick.shapes)))
-    return way + [within] + own
-
-
-def bits_in(cells):
-    """The numbers of all bits of the cells that are 1."""
-    return {8 * cell + shift for cell, number in enumerate(cells) for shift in range(8) if number >> shift & 1}
-
-
-def wanted_bits(shapes, at, records):
-    """The numbers of the bits that are 1 by the words and tags of these records."""
-    found = set()
-    for thing, record in enumerate(records):
-        for path, number in flat(shapes.main(), record):
-            cell, shift, bits = at[path, thing]
-            found |= {8 * cell + shift + bit for bit in range(bits) if number >> bit & 1}
-    return found
 
 
 class Drawn(unittest.TestCase):

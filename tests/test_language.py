@@ -185,6 +185,29 @@ class Forms(unittest.TestCase):
             self.assertIn(node.exc.func.id, made, where(file, node))
 
 
+    def test_what_stands_in_a_finally(self):
+        for file, node in nodes(ast.Try):
+            for row in node.finalbody:
+                self.assertIsInstance(row, ast.Assign, where(file, row))
+                self.assertIsInstance(row.value, (ast.Name, ast.Attribute, ast.Constant, ast.List, ast.Tuple), where(file, row))
+
+    def test_methods_of_objects_are_called_where_they_stand(self):
+        methods = {part.name for file, node in nodes(ast.ClassDef) for part in node.body if isinstance(part, ast.FunctionDef)}
+        for file in FILES:
+            tree = tree_of(file)
+            called = {id(node.func) for node in ast.walk(tree) if isinstance(node, ast.Call)}
+            for node in ast.walk(tree):
+                if isinstance(node, ast.Attribute) and node.attr in methods:
+                    self.assertIn(id(node), called, where(file, node))
+
+    def test_lists_and_dicts_of_a_top_hold_no_others(self):
+        for file in FILES:
+            for row in tree_of(file).body:
+                if isinstance(row, ast.Assign):
+                    inner = [node for node in ast.walk(row.value) if isinstance(node, (ast.List, ast.Dict)) and node is not row.value]
+                    self.assertEqual(inner, [], where(file, row))
+
+
 class Names(unittest.TestCase):
 
     def test_names_are_plain(self):
