@@ -91,7 +91,7 @@ def read_program(shapes, text):
     """The program for these shapes that the text tells."""
     if not isinstance(text, str):
         raise NoProgram(0)
-    lines = text.split("\n") if text else []
+    lines = lines_in(text)
     told = []
     begun = []
     named = []
@@ -108,6 +108,11 @@ def read_program(shapes, text):
         raise NoProgram(len(lines))
     rows, behind = rows_from(told, 0)
     return Program(shapes, rows, named, text)
+
+
+def lines_in(text):
+    """The lines of a program's text: the text without signs has none."""
+    return text.split("\n") if text else []
 
 
 def form_of(line, words):

@@ -4,10 +4,12 @@ import copy
 import random
 
 from roomslaid.cellstore import Cells
+from roomslaid.desk import Desk
 from roomslaid.errors import NoRoom, RoomError
 from roomslaid.flats import flat
 from roomslaid.kept import Kept
 from roomslaid.layingtext import read_laying
+from roomslaid.opening import Opening, closing
 from roomslaid.program import read_program
 from roomslaid.room import Room
 from roomslaid.runs import run
@@ -26,7 +28,8 @@ ODD = [
     {0: 1}, {None: []}, [[[[[[[[[[[[]]]]]]]]]]]], Room(1), Num(1), NoRoom(0), Shape("a", [("x", Num(1))]),
     Nested(Shape("a", [("x", Num(1))])), Shapes([Shape("a", [("x", Num(1))])]),
     TINY_LAYING, TINY_PROGRAM, TINY_PROGRAM.rows[0], TINY_LAYING.parts[0], Plain(TINY, 1, [{"x": 0}]), Cells(TINY_LAYING, []),
-    Turning(TINY_LAYING, TINY_LAYING, []), run(TINY_PROGRAM, Plain(TINY, 1, []), {}, 1), Kept(1),
+    Turning(TINY_LAYING, TINY_LAYING, []), run(TINY_PROGRAM, Plain(TINY, 1, []), {}, 1), Kept(1), Desk(),
+    closing(read_shapes("shape a\nx num 1\nshape b\ny num 1"), "b", 0, 1, "a", "z"),
 ]
 
 DRAWING = "\n".join([
@@ -125,6 +128,17 @@ def some_kind(dice, told):
     if word == "shape":
         return name, size, depth
     return "row %d %s" % (count, name), count * size, depth
+
+
+def openings(shapes):
+    """All openings of the shapes that there may be, each with new names."""
+    found = []
+    for shape in shapes.shapes:
+        for name, kind in shape.fields:
+            if kind.word() == "shape" and len(shape.fields) + len(kind.shape.fields) <= 7:
+                names = ["qa", "qb", "qc", "qd", "qe", "qf"][:len(kind.shape.fields)]
+                found.append(Opening(shapes, shape.name, name, names))
+    return found
 
 
 def some_record(shape, dice):

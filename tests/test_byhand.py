@@ -16,7 +16,7 @@ from roomslaid.shapes import Many, Nested, Num, Pick, Shape, Shapes
 from roomslaid.shapetext import read_shapes
 from roomslaid.stores import Plain
 from roomslaid.turning import Turning, run_turning
-from tests.helper import DRAWING, PICKS, outcome, plain, some_deed, some_laying, some_program, some_record, some_text
+from tests.helper import DRAWING, PICKS, openings, outcome, plain, some_deed, some_laying, some_program, some_record, some_text
 
 TEXTS = [DRAWING, PICKS] + [some_text(seed) for seed in range(40)]
 
@@ -158,6 +158,19 @@ class Told(unittest.TestCase):
                     vars(run_turning(rows, store, {}, 200, [0, 1] * 4)), table(rows, [laying], records, {}, 200, 8, 4),
                     least(rows, [laying, laying], records, {}, 200, 8, 4))))
             self.assertEqual(told, told[:1] * 4)
+
+    def test_openings(self):
+        many = 0
+        for read, made, dice in self.pairs():
+            for one, other in zip(openings(made), openings(read)):
+                self.assertIs(one.before, made)
+                self.assertEqual((one.name, one.field, one.given), (other.name, other.field, other.given))
+                self.assertEqual(one.after.text(), other.after.text())
+                self.assertEqual(one.after.main().leaves(), other.after.main().leaves())
+                record = some_record(read.main(), dice)
+                self.assertEqual(plain(one.record_onward(record)), plain(other.record_onward(record)))
+                many += 1
+        self.assertGreater(many, 20)
 
 
 if __name__ == "__main__":
