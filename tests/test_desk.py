@@ -311,6 +311,10 @@ class ShapesProgramsThings(unittest.TestCase):
         for sets in ("n", "n=", "n:", "=", ":", "n=1:2", "what:1=2", "n=:1", "n:=1", "n==1", "n=1=1", "n=x", "what:x", "n=1 n", "n n=1", "n=1,2"):
             line = "thing " + sets
             refused(self, NoDesk, {"line": line}, desk.say, line)
+        for number in range(33, 127):
+            if chr(number) not in "=:":
+                line = "thing n%s5" % chr(number)
+                refused(self, NoDesk, {"line": line}, desk.say, line)
 
     def test_sixty_four_things_and_one_more(self):
         desk = small("program out a")
